@@ -1,0 +1,1 @@
+"""Farclocks: readings of several clocks, and letters between them."""
