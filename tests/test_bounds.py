@@ -3,7 +3,7 @@ import unittest
 from farclocks.bounds import are_times, bounds, broken, is_world, of_letter
 from farclocks.errors import NoNumber, NoRecord
 from samples import (
-    CLOCKS, FULL, LEAST, NO_RECORDS, ODD, RECORD, as_list, leaves_unchanged, repr_of, with_clock, with_letters,
+    CLOCKS, FULL, LEAST, NO_RECORDS, ODD, PAIR, RECORD, as_list, leaves_unchanged, repr_of, with_clock, with_letters,
 )
 
 CLOCK_BOUNDS = [
@@ -19,8 +19,6 @@ LETTER_BOUNDS = [
     ((0, 0), (1, 0), -999), ((1, 0), (0, 0), 999),
 ]
 
-# Two clocks and a letter from the first reading of the one to the second one of the other.
-PAIR = (((2, 3, (0, 10)), (1, 1, (4, 7))), (((0, 0), (1, 1), 5, 8),))
 PAIR_BOUNDS = [
     ((0, 0), (0, 1), 30), ((0, 1), (0, 0), -20),
     ((1, 0), (1, 1), 3), ((1, 1), (1, 0), -3),

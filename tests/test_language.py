@@ -33,6 +33,17 @@ NODES = (
     ast.boolop, ast.cmpop,
 )
 
+WALKED = set("zip enumerate reversed range items keys values".split())
+WALKERS = set("list tuple dict sorted sum any all enumerate zip min max".split())
+KEYWORDS = {
+    "sorted": ["key", "reverse"], "min": ["key", "default"], "max": ["key", "default"], "sum": ["start"],
+    "enumerate": ["start"], "zip": ["strict"],
+}
+
+
+def place_of(node):
+    return (node.lineno, node.col_offset, node.end_lineno, node.end_col_offset)
+
 
 def files():
     return sorted(path for path in PACKAGE.rglob("*") if "__pycache__" not in path.parts)
@@ -172,6 +183,30 @@ class Language(unittest.TestCase):
         for place, node in self.each(ast.Call):
             if isinstance(node.func, ast.Attribute):
                 self.assertIn(node.func.attr, own | OWN_METHODS, place)
+
+    def test_walked_at_once(self):
+        allowed = set()
+        for path in files():
+            for node in nodes(path, ast.For, ast.comprehension):
+                allowed.add((path, place_of(node.iter)))
+            for node in nodes(path, ast.Call):
+                if isinstance(node.func, ast.Name) and node.func.id in WALKERS and node.args:
+                    allowed.add((path, place_of(node.args[0])))
+                if isinstance(node.func, ast.Name) and node.func.id == "zip":
+                    allowed |= {(path, place_of(part)) for part in node.args}
+            for node in nodes(path, ast.Call):
+                name = node.func.id if isinstance(node.func, ast.Name) else node.func.attr
+                if name in WALKED:
+                    self.assertIn((path, place_of(node)), allowed, f"{path.name}:{node.lineno}")
+
+    def test_sets_and_keywords(self):
+        for place, node in self.each(ast.Call):
+            if isinstance(node.func, ast.Name):
+                self.assertNotIn(node.func.id, ["set", "frozenset"], place)
+                for keyword in node.keywords:
+                    self.assertIn(keyword.arg, KEYWORDS.get(node.func.id, []), place)
+        for place, node in self.each(ast.Set, ast.Pow):
+            self.fail(place)
 
 
 if __name__ == "__main__":
