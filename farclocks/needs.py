@@ -37,14 +37,15 @@ def needless_letters(record):
     return [number for number in numbers if same_worlds(with_only(record, without(numbers, number)), record)]
 
 
+# Letters behind the one that is asked of may be gone, those ahead are all there: so its number is still its own.
 def least_letters(record):
     need_world(record)
-    kept = all_letters(record)
-    for number in range(len(kept) - 1, -1, -1):
-        fewer = without(kept, number)
-        if same_worlds(with_only(record, fewer), record):
-            kept = fewer
-    return kept
+    least = record
+    for number in range(len(record[1]) - 1, -1, -1):
+        less = with_only(least, without(all_letters(least), number))
+        if same_worlds(less, record):
+            least = less
+    return least
 
 
 # The mosts between all events tell all worlds: what they let by is just what the bounds do.
