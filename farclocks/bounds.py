@@ -1,7 +1,6 @@
 """Bounds: how much later one event may be than another, and which times keep to that."""
 
-from farclocks.errors import NoNumber
-from farclocks.records import events, is_long, is_whole, is_within, need_record
+from farclocks.records import events, is_long, is_whole, need_number, need_record
 
 
 def bounds_of_clock(number, clock):
@@ -37,8 +36,7 @@ def bounds(record):
 def of_letter(record, number):
     need_record(record)
     letters = record[1]
-    if not is_within(number, 0, len(letters) - 1):
-        raise NoNumber("no letter has this number")
+    need_number(len(letters), number)
     start = len(bounds((record[0], letters[:number])))
     return list(range(start, start + len(bounds_of_letter(letters[number]))))
 

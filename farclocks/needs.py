@@ -2,8 +2,7 @@
 
 from farclocks.between import all_most
 from farclocks.bounds import bounds
-from farclocks.errors import NoNumber
-from farclocks.records import events, is_within, need_record
+from farclocks.records import events, need_number, need_record
 from farclocks.walks import settle
 from farclocks.worlds import has_world, need_world
 
@@ -11,8 +10,7 @@ from farclocks.worlds import has_world, need_world
 # A bound says nothing new just where the others lead from its one to its other and come to no more.
 def is_needless(record, number):
     limits = bounds(record)
-    if not is_within(number, 0, len(limits) - 1):
-        raise NoNumber("no bound has this number")
+    need_number(len(limits), number)
     need_world(record)
     bound = limits[number]
     walks = settle(limits[:number] + limits[number + 1:], [bound[0]])[0]

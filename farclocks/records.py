@@ -1,6 +1,6 @@
 """Records: clocks with their readings, events, and letters between events."""
 
-from farclocks.errors import NoEvent, NoRecord
+from farclocks.errors import NoEvent, NoNumber, NoRecord
 
 MOST_CLOCKS = 4
 MOST_LETTERS = 8
@@ -78,6 +78,12 @@ def need_record(thing):
 def need_event(record, thing):
     if not is_event(record[0], thing):
         raise NoEvent("the record has no such event")
+
+
+# Clocks, letters and bounds are numbered alike, each from 0.
+def need_number(many, thing):
+    if not is_within(thing, 0, many - 1):
+        raise NoNumber("the record has nothing with this number")
 
 
 def events(record):

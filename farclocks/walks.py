@@ -22,6 +22,13 @@ def leads(limits, one, other, thing):
     return place == other
 
 
+def leads_round(limits, thing):
+    if not are_numbers(limits, thing) or thing == []:
+        return False
+    start = limits[thing[0]][0]
+    return leads(limits, start, start, thing)
+
+
 # For each event that can be come to from a start, what the least walk there comes to, and that walk; or None, and
 # a round that comes to less than 0. A walk is kept only if it comes to less than the one kept so far. So one that is
 # back at an event that it passed comes to less there than at first, by the round between. As walks that pass no event

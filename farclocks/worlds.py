@@ -3,7 +3,7 @@
 from farclocks.bounds import bounds, is_world
 from farclocks.errors import NoWorld
 from farclocks.records import events
-from farclocks.walks import are_numbers, leads, settle, sum_of
+from farclocks.walks import leads_round, settle, sum_of
 
 
 # Each time is the least that a walk to the event comes to, from wherever it begins at 0: no bound lets it be
@@ -41,7 +41,4 @@ def barring(record):
 
 def bars(record, thing):
     limits = bounds(record)
-    if not are_numbers(limits, thing) or thing == []:
-        return False
-    start = limits[thing[0]][0]
-    return leads(limits, start, start, thing) and sum_of(limits, thing) < 0
+    return leads_round(limits, thing) and sum_of(limits, thing) < 0

@@ -163,12 +163,10 @@ NAMED = [
 RECORDS = NAMED + DRAWN + SMALL
 
 
-def table(record, without=(), more=()):
-    """The most between each two events, None where there is none; or None without a world. Step by step through
-    each event, not along walks as the program does."""
-    places = events(record)
+def mosts(places, limits):
+    """The most between each two places, None where there is none; or None where a round comes to less than 0. Step
+    by step through each place, not along walks as the program does."""
     most = {(one, other): 0 if one == other else None for one in places for other in places}
-    limits = [bound for number, bound in enumerate(bounds(record)) if number not in without] + list(more)
     for one, other, many in limits:
         if most[one, other] is None or many < most[one, other]:
             most[one, other] = many
@@ -179,6 +177,12 @@ def table(record, without=(), more=()):
         if most[one, other] is None or many < most[one, other]:
             most[one, other] = many
     return None if any(most[place, place] < 0 for place in places) else most
+
+
+def table(record, without=(), more=()):
+    """The most between each two events of a record, or None without a world."""
+    limits = [bound for number, bound in enumerate(bounds(record)) if number not in without] + list(more)
+    return mosts(events(record), limits)
 
 
 TABLES = {record: table(record) for record in RECORDS}

@@ -18,6 +18,9 @@ OWN_METHODS = set(
     "items join keys ljust lower lstrip partition pop remove replace reverse rfind rjust rpartition rsplit rstrip "
     "setdefault split splitlines startswith strip update upper values zfill bit_length".split()
 )
+PYTHONS_OWN = {name for kind in (str, int, list, tuple, dict, set, frozenset, bytes) for name in dir(kind)}
+VALUES_LET_BY = set("count index title find get join lower upper split strip copy add".split())
+VALUES_OUT = set("args format".split())
 TWO_UNDERSCORES = {"__init__", "__eq__", "__repr__", "__str__", "__len__"}
 WORDS_OUT = re.compile(
     r"\b(type|typing|typing_extensions|enum|Enum|IntEnum|StrEnum|Flag|IntFlag|Generic|Protocol|ABC|ABCMeta|namedtuple"
@@ -183,6 +186,42 @@ class Language(unittest.TestCase):
         for place, node in self.each(ast.Call):
             if isinstance(node.func, ast.Attribute):
                 self.assertIn(node.func.attr, own | OWN_METHODS, place)
+
+    def test_methods_and_values_of_objects(self):
+        methods = {part.name for place, node in self.each(ast.ClassDef) for part in node.body
+                   if isinstance(part, ast.FunctionDef)} - TWO_UNDERSCORES
+        values = {node.attr for place, node in self.each(ast.Attribute) if isinstance(node.ctx, ast.Store)}
+        self.assertEqual(methods & values, set())
+        self.assertEqual(methods & (PYTHONS_OWN - OWN_METHODS - {"add", "discard"}), set())
+        self.assertEqual(values & (PYTHONS_OWN - VALUES_LET_BY | VALUES_OUT), set())
+        self.assertEqual((methods | values) & NAMES_OUT, set())
+        for place, node in self.each(ast.ClassDef):
+            names = [part.name for part in node.body if isinstance(part, ast.FunctionDef)]
+            self.assertEqual(len(names), len(set(names)), place)
+        for place, node in self.each(ast.Attribute):
+            if isinstance(node.ctx, ast.Store):
+                self.assertIsInstance(node.value, ast.Name, place)
+            self.assertIn(node.attr, methods | values | OWN_METHODS, place)
+
+    def test_errors_that_are_taken(self):
+        own = {node.name for place, node in self.each(ast.ClassDef)}
+        for place, node in self.each(ast.Try):
+            for handler in node.handlers:
+                self.assertIsInstance(handler.type, ast.Name, place)
+                if handler.type.id in own | {"KeyError", "ZeroDivisionError", "StopIteration"}:
+                    continue
+                self.assertEqual(handler.type.id, "ValueError", place)
+                self.assertEqual(len(node.body), 1, place)
+                calls = [part for part in ast.walk(node.body[0]) if isinstance(part, ast.Call)]
+                self.assertEqual([call.func.id for call in calls], ["int"], place)
+
+    def test_texts(self):
+        for place, node in self.each(ast.Constant):
+            if isinstance(node.value, str):
+                self.assertNotIn("%", node.value, place)
+        for place, node in self.each(ast.FormattedValue):
+            self.assertIsInstance(node.value, ast.Name, place)
+            self.assertIsNone(node.format_spec, place)
 
     def test_walked_at_once(self):
         allowed = set()
